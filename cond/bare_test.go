@@ -13,7 +13,7 @@ import (
 
 var (
 	bareNumberForm = regexp.MustCompile(`^(0[xX][0-9a-fA-F]+|0[0-7]*|[1-9][0-9]*)(|[uU](l|L|ll|LL)?|(l|L|ll|LL)[uU]?)$`)
-	bareCharForm   = regexp.MustCompile(`(?s)^'([^'\\]|\\[ntvbrfa\\'"?]|\\[0-7]{1,3}|\\x[0-9a-fA-F]+)'$`)
+	bareCharForm   = regexp.MustCompile(`^'([^'\\\n\r]|\\[ntvbrfa\\'"?]|\\[0-7]{1,3}|\\x[0-9a-fA-F]+)'$`)
 
 	two63 = new(big.Int).Lsh(big.NewInt(1), 63)
 	two64 = new(big.Int).Lsh(big.NewInt(1), 64)

@@ -195,12 +195,12 @@ func TestEveryShortNumber(t *testing.T) {
 	})
 }
 
-// P5.1: characters of a byte, all of them.
+// P5.1: characters of a byte, all of them; a line end is none, as a character stands in one line.
 func TestBytes(t *testing.T) {
 	for c := range 256 {
 		s := "'" + string([]byte{byte(c)}) + "'"
 		switch worth := int64(c); {
-		case c == '\'' || c == '\\':
+		case c == '\'' || c == '\\' || c == '\n' || c == '\r':
 			wantNoChar(t, s)
 		case c < 128:
 			wantChar(t, s, worth)
@@ -255,6 +255,7 @@ func TestNoChar(t *testing.T) {
 		"'\\x'", "'\\xg'", "'\\x4g'", "'\\xg4'", "'\\x 4'", "'\\x+4'", "'\\x-4'", "'\\x_4'", "'\\x4_1'", "'\\X41'", "'\\x0x4'", "'\\x100'", "'\\xfff'", "'\\xffffffffffffffff'", "'\\x10000000000000041'",
 		"'\\8'", "'\\9'", "'\\18'", "'\\128'", "'\\400'", "'\\777'", "'\\0000'", "'\\0001'", "'\\1234'", "'\\-1'", "'\\+1'", "'\\0x1'", "'\\1_'",
 		"'\\u0041'", "'\\e'", "'\\N'", "'\\A'", "'\\ '", "'\\0 '", "'\xc3\xa9'", "'\\\xff'", "'\\\x00'",
+		"'\n'", "'\r'", "'\r\n'", "'\n\r'", "'\n\n'", "'\\\n'", "'\\\r'", "'\\\r\n'", "'a\n'", "'\na'", "'\\n\n'", "'\\\nn'", "'\\1\n'", "'\\x4\r1'", "'a'\n", "\r'a'",
 	} {
 		wantNoChar(t, s)
 	}
@@ -262,7 +263,7 @@ func TestNoChar(t *testing.T) {
 
 // P5.1: all short texts of what characters are made of.
 func TestEveryShortChar(t *testing.T) {
-	every([]string{"'", "\\", "x", "n", "0", "3", "7", "8", "f", "\"", "\xe9", "\n"}, 6, nil, func(l []string) {
+	every([]string{"'", "\\", "x", "n", "0", "3", "7", "8", "f", "\"", "\xe9", "\n", "\r"}, 6, nil, func(l []string) {
 		if t.Failed() {
 			return
 		}
@@ -773,6 +774,7 @@ func TestTokens(t *testing.T) {
 	for _, wrong := range []api.Tok{
 		{}, {Kind: api.TOther, S: "1"}, {Kind: api.TText, S: "1"}, {Kind: api.TPunct, S: "1"}, {Kind: 0, S: "1"}, {Kind: 7, S: "1"}, {Kind: -1, S: "X"},
 		{Kind: api.TNumber}, {Kind: api.TNumber, S: "X"}, {Kind: api.TNumber, S: "'a'"}, {Kind: api.TNumber, S: "-1"}, {Kind: api.TChar}, {Kind: api.TChar, S: "1"}, {Kind: api.TChar, S: "a"},
+		{Kind: api.TChar, S: "'\n'"}, {Kind: api.TChar, S: "'\r'"}, {Kind: api.TChar, S: "'\r\n'"},
 		{Kind: api.TOther, S: "X"}, {Kind: api.TPunct}, {Kind: api.TPunct, S: "()"}, {Kind: api.TPunct, S: "X"},
 	} {
 		wantNone(t, []api.Tok{wrong})
